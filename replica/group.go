@@ -1,0 +1,57 @@
+package replica
+
+import (
+	"quorum/api"
+	"quorum/message"
+)
+
+// nobody is the primary where there is no group.
+const nobody = -1
+
+// primary is the primary of the view.
+func (r *Replica) primary() int {
+	if len(r.group) == 0 {
+		return nobody
+	}
+	return r.group[r.view%len(r.group)]
+}
+
+// leads tells whether it is the Normal primary of its view.
+func (r *Replica) leads() bool {
+	return r.status == api.Normal && r.primary() == r.id
+}
+
+func (r *Replica) isMember(replica int) bool {
+	return message.Contains(r.group, replica)
+}
+
+// isClosing tells whether the log has an entry that ends this epoch.
+func (r *Replica) isClosing() bool {
+	return regroups(r.log) > r.epoch
+}
+
+// regroups counts the entries with r.
+func regroups(log []api.Entry) int {
+	count := 0
+	for i := 0; i < len(log); i++ {
+		if message.IsRegroup(log[i]) {
+			count++
+		}
+	}
+	return count
+}
+
+// upToRegroup is the part of a log up to its e-th entry with r, or all of it if there are fewer.
+func upToRegroup(log []api.Entry, e int) []api.Entry {
+	count := 0
+	for i := 0; i < len(log); i++ {
+		if !message.IsRegroup(log[i]) {
+			continue
+		}
+		count++
+		if count == e {
+			return log[:i+1]
+		}
+	}
+	return log
+}
