@@ -30,6 +30,7 @@ func (r *Replica) turn(group []int) {
 	r.view = 0
 	r.normal = 0
 	r.acks = [api.MaxNodes]int{}
+	r.votes = nil
 	isMember := r.isMember(r.id)
 	if !isMember {
 		r.status = api.Leave

@@ -16,9 +16,18 @@ func (r *Replica) primary() int {
 	return r.group[r.view%len(r.group)]
 }
 
+func (r *Replica) isPrimary() bool {
+	return r.primary() == r.id
+}
+
 // leads tells whether it is the Normal primary of its view.
 func (r *Replica) leads() bool {
-	return r.status == api.Normal && r.primary() == r.id
+	return r.status == api.Normal && r.isPrimary()
+}
+
+// f is how many of the group may be gone without the others' coming to a halt.
+func (r *Replica) f() int {
+	return (len(r.group) - 1) / 2
 }
 
 func (r *Replica) isMember(replica int) bool {

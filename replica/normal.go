@@ -1,15 +1,9 @@
 package replica
 
-import (
-	"quorum/api"
-	"quorum/message"
-)
+import "quorum/message"
 
-// takeOfView: of this epoch and view (P8).
+// takeOfView: of this epoch and view, to one that is Normal (P8).
 func (r *Replica) takeOfView(m message.Message) {
-	if r.status != api.Normal {
-		return // P9 is still to come
-	}
 	if m.Kind == 'g' {
 		r.tell(m.From)
 		return
@@ -43,9 +37,7 @@ func (r *Replica) takeEntry(m message.Message) {
 		}
 		r.log = append(r.log, m.Entry)
 	}
-	k := r.head('k')
-	k.Place = len(r.log)
-	r.send(m.From, k)
+	r.ack(m.From)
 	r.decide(m.Commit)
 }
 
@@ -73,7 +65,7 @@ func (r *Replica) takeAck(m message.Message) {
 
 // acked is the greatest place that f members besides itself have.
 func (r *Replica) acked() int {
-	f := (len(r.group) - 1) / 2
+	f := r.f()
 	for place := len(r.log); place > 0; place-- {
 		if r.acksFor(place) >= f {
 			return place

@@ -1,13 +1,9 @@
 package replica_test
 
 import (
-	"fmt"
-	"math/rand"
-	"strings"
 	"testing"
 
 	"quorum/api"
-	"quorum/replica"
 )
 
 func TestP8Entry(t *testing.T) {
@@ -138,6 +134,40 @@ func TestAcksBehindTheTurn(t *testing.T) {
 	})
 }
 
+// ACKS of a place beyond the turn are of the group that was.
+func TestAcksBeyondTheTurn(t *testing.T) {
+	log := "1.1.r021/1.2.pa5"
+	play(t, made(t, 0, 3, "012"), []step{
+		{"take s 1 0.0.0 0 3 012 - 0 " + log, ""},
+		{"take k 1 0.0.0 0 3 2", "-1: y 1 1 ok; " + others("s 0 0.0.0 1 0 021 012 1 "+log, 2, 1) + "; " + others("t 0 0.0.0 1 0", 1, 2)},
+		{"where", "1 0 1 1"},
+		{"take k 2 0.0.0 1 0 1", ""},
+		{"where", "1 0 1 1"},
+		{"take k 2 0.0.0 1 0 2", "-1: y 1 2 ok"},
+	})
+}
+
+// The epoch turns at an entry with r alone, and at none that an epoch before has turned at.
+func TestDecideTurnsNot(t *testing.T) {
+	play(t, made(t, 1, 3, "012"), []step{
+		{"take p 0 0.0.0 0 0 1 1.1.pa5 1", "0: k 1 0.0.0 0 0 1"},
+		{"take s 2 0.0.0 0 2 012 - 2 1.1.r120/1.2.pa6", "2: k 1 0.0.0 0 2 2"},
+		{"where", "0 2 1 2"},
+		{"groups", "[0 1 2] []"},
+	})
+	play(t, made(t, 1, 3, "012"), []step{
+		{"take p 0 0.0.0 0 0 1 1.1.r120 1", "0: k 1 0.0.0 0 0 1; " + others("s 1 0.0.0 1 0 120 012 1 1.1.r120", 2, 0) + "; " + others("t 1 0.0.0 1 0", 0, 2)},
+		{"take s 2 0.0.0 1 1 120 012 0 -", "2: k 1 0.0.0 1 1 0"},
+		{"where", "1 1 1 0"},
+		{"take p 2 0.0.0 1 1 1 1.1.r210 1", "2: k 1 0.0.0 1 1 1"},
+		{"where", "1 1 1 1"},
+		{"take p 2 0.0.0 1 1 2 1.2.r201 1", "2: k 1 0.0.0 1 1 2"},
+		{"take p 2 0.0.0 1 1 3 1.3.pa5 2", ""},
+		{"take c 2 0.0.0 1 1 2", others("s 1 0.0.0 2 0 201 120 2 1.1.r210/1.2.r201", 2, 0) + "; " + others("t 1 0.0.0 2 0", 2, 0)},
+		{"where", "2 0 1 2"},
+	})
+}
+
 func TestP12Beat(t *testing.T) {
 	play(t, made(t, 0, 3, "012"), []step{
 		{"beat", others("c 0 0.0.0 0 0 0", 1, 2)},
@@ -175,91 +205,4 @@ func TestP12Suspect(t *testing.T) {
 		{"suspect", ""},
 		{"where", "0 999 2 0"},
 	})
-}
-
-// Whatever is lost, comes twice or late: with enough beats the primary decides all of its log, and what is decided elsewhere is a part of it.
-func TestTogether(t *testing.T) {
-	for seed := int64(0); seed < 40; seed++ {
-		random := rand.New(rand.NewSource(seed))
-		n, group := 3, "201"
-		if seed%2 == 1 {
-			n, group = 5, "20143"
-		}
-		var nodes []*replica.Replica
-		for id := 0; id < n; id++ {
-			nodes = append(nodes, made(t, id, n, group))
-		}
-		var way []api.Out
-		replies := map[string]string{}
-		for i := 0; i < 3000; i++ {
-			switch {
-			case i < 1500 && random.Intn(40) == 0:
-				ops := []string{"pa1", "ga", "ca12", "da", "pa2"}
-				way = append(way, nodes[2].Take(fmt.Sprintf("q %d %d %s", 1+random.Intn(3), 1+random.Intn(6), ops[random.Intn(5)]))...)
-			case random.Intn(20) == 0:
-				way = append(way, nodes[2].Beat()...)
-			case len(way) > 0:
-				at := random.Intn(len(way))
-				o := way[at]
-				if random.Intn(4) > 0 {
-					way = append(way[:at], way[at+1:]...)
-				}
-				if o.To < 0 {
-					isOneReply(t, replies, o.Text)
-				} else if random.Intn(3) > 0 {
-					way = append(way, nodes[o.To].Take(o.Text)...)
-				}
-			}
-			if len(way) > 60 {
-				way = way[30:]
-			}
-		}
-		areAlike(t, seed, nodes)
-	}
-}
-
-// isOneReply: a request has one result, however often it is told.
-func isOneReply(t *testing.T, replies map[string]string, text string) {
-	t.Helper()
-	at := strings.LastIndex(text, " ")
-	request, result := text[:at], text[at:]
-	if known, ok := replies[request]; ok && known != result {
-		t.Errorf("%s: %s and %s", request, known, result)
-	}
-	replies[request] = result
-}
-
-func areAlike(t *testing.T, seed int64, nodes []*replica.Replica) {
-	t.Helper()
-	_, _, _, all := nodes[2].Where()
-	log := nodes[2].Log()
-	if all == 0 || all != len(log) {
-		t.Errorf("seed %d: the primary has decided %d of %s", seed, all, logOf(nodes[2]))
-	}
-	for id, r := range nodes {
-		_, _, _, decided := r.Where()
-		if !strings.HasPrefix(logOf(nodes[2]), logOf(r)) {
-			t.Errorf("seed %d: replica %d has the log %s, the primary %s", seed, id, logOf(r), logOf(nodes[2]))
-			continue
-		}
-		if want := valueBehind(log[:decided]); r.Value('a') != want {
-			t.Errorf("seed %d: replica %d, %d decided of %s: a is %q, not %q", seed, id, decided, logOf(r), r.Value('a'), want)
-		}
-	}
-}
-
-// valueBehind is what the key a has when a log of pa1, ca12, da, pa2 and ga is carried out.
-func valueBehind(log []api.Entry) string {
-	value := ""
-	for _, e := range log {
-		switch {
-		case e.Op == "pa1":
-			value = "1"
-		case e.Op == "pa2" || e.Op == "ca12" && value == "1":
-			value = "2"
-		case e.Op == "da":
-			value = ""
-		}
-	}
-	return value
 }

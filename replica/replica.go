@@ -22,6 +22,7 @@ type Replica struct {
 	decided int
 	service service.Service
 	acks    [api.MaxNodes]int
+	votes   []message.Message
 	out     []api.Out // what the call that is under way has sent so far
 }
 

@@ -48,6 +48,13 @@ func (r *Replica) sendEntry(place int) {
 	r.sendOthers(r.group, m)
 }
 
+// ack sends k: it has the whole of its log.
+func (r *Replica) ack(to int) {
+	k := r.head('k')
+	k.Place = len(r.log)
+	r.send(to, k)
+}
+
 func (r *Replica) reply(client int, num int, result string) {
 	r.out = append(r.out, api.Out{To: -client, Text: message.Reply(client, num, result)})
 }

@@ -15,6 +15,7 @@ func (r *Replica) Take(text string) []api.Out {
 		r.takeRequest(m)
 	} else if r.isAlive(m) {
 		r.learnLives(m.Lives)
+		r.votes = ofThisLife(r.votes, r.lives)
 		r.takeOfReplica(m)
 	}
 	return r.sent()
@@ -40,8 +41,11 @@ func (r *Replica) takeOfReplica(m message.Message) {
 		return // P10 is still to come
 	}
 	switch m.Kind {
-	case 's', 't', 'a':
-		return // P11 is still to come
+	case 's':
+		r.takeState(m)
+		return
+	case 't', 'a':
+		return // P11's t is still to come
 	case 'r':
 		r.answer(m)
 		return
@@ -79,10 +83,12 @@ func (r *Replica) takeOutside(m message.Message) {
 func (r *Replica) takeInside(m message.Message) {
 	laterView := m.Epoch == r.epoch && m.View > r.view
 	switch {
+	case m.Epoch == r.epoch && m.View == r.view && r.status == api.Change:
+		r.takeInChange(m)
 	case m.Epoch == r.epoch && m.View == r.view:
 		r.takeOfView(m)
 	case laterView && isOfChange(m):
-		return // P9 is still to come
+		r.takeLaterView(m)
 	case laterView || m.Epoch > r.epoch:
 		r.sendBare(m.From, 'g')
 	default:

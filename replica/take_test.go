@@ -171,6 +171,27 @@ func TestP6InChange(t *testing.T) {
 	})
 }
 
+// P6: the BEGINNING goes up to the entry that began the epoch, be there others with r ahead of it; with fewer of them it is the whole log.
+func TestP6Beginning(t *testing.T) {
+	play(t, made(t, 1, 3, "012"), []step{
+		{"take p 0 0.0.0 0 0 1 1.1.r120 1", "0: k 1 0.0.0 0 0 1; " + others("s 1 0.0.0 1 0 120 012 1 1.1.r120", 2, 0) + "; " + others("t 1 0.0.0 1 0", 0, 2)},
+		{"take m 1 2 1 012", others("p 1 0.0.0 1 0 2 1.2.r012 1", 2, 0)},
+		{"take k 0 0.0.0 1 0 2", "-1: y 1 2 ok; " + others("s 1 0.0.0 2 0 012 120 2 1.1.r120/1.2.r012", 0, 2) + "; " + others("t 1 0.0.0 2 0", 2, 0)},
+		{"take p 0 0.0.0 2 0 3 1.3.pa5 2", "0: k 1 0.0.0 2 0 3"},
+		{"suspect", others("h 1 0.0.0 2 1", 0, 2)},
+		{"take k 2 0.0.0 1 0 0", "2: s 1 0.0.0 2 0 012 120 2 1.1.r120/1.2.r012"},
+		{"take h 0 0.0.0 0 9", "0: s 1 0.0.0 2 0 012 120 2 1.1.r120/1.2.r012"},
+	})
+	play(t, made(t, 1, 3, "012"), []step{
+		{"take p 0 0.0.0 0 0 1 1.1.r120 1", "0: k 1 0.0.0 0 0 1; " + others("s 1 0.0.0 1 0 120 012 1 1.1.r120", 2, 0) + "; " + others("t 1 0.0.0 1 0", 0, 2)},
+		{"take s 2 0.0.0 1 1 120 012 0 1.2.pa5/1.3.pa6", "2: k 1 0.0.0 1 1 2"},
+		{"where", "1 1 1 1"},
+		{"suspect", others("h 1 0.0.0 1 2", 2, 0) + "; 0: v 1 0.0.0 1 2 1 1 1.2.pa5/1.3.pa6"},
+		{"take k 2 0.0.0 0 0 0", "2: s 1 0.0.0 1 0 120 012 2 1.2.pa5/1.3.pa6"},
+		{"where", "1 2 2 1"},
+	})
+}
+
 // P6: to one in status Leave.
 func TestP6InLeave(t *testing.T) {
 	play(t, made(t, 0, 5, "012"), []step{

@@ -9,6 +9,7 @@ func (r *Replica) Beat() []api.Out {
 		r.remind()
 	case r.status == api.Change:
 		r.call()
+		r.voteAgain()
 	case r.status == api.Recover:
 		r.ask()
 	case r.status == api.Leave:

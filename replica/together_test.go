@@ -1,0 +1,162 @@
+package replica_test
+
+import (
+	"fmt"
+	"math/rand"
+	"strings"
+	"testing"
+
+	"quorum/api"
+	"quorum/replica"
+)
+
+// world is replicas, what is on the way between them, and what has been seen of them.
+type world struct {
+	t       *testing.T
+	seed    int64
+	random  *rand.Rand
+	nodes   []*replica.Replica
+	way     []api.Out
+	decided []string          // by place, as far as any replica has decided
+	replies map[string]string // by request
+}
+
+func newWorld(t *testing.T, seed int64, n int, group string) *world {
+	t.Helper()
+	w := &world{t: t, seed: seed, random: rand.New(rand.NewSource(seed)), replies: map[string]string{}}
+	for id := 0; id < n; id++ {
+		w.nodes = append(w.nodes, made(t, id, n, group))
+	}
+	return w
+}
+
+// step: now and then a client asks, or a tick comes; else something on the way comes, is lost, or comes and stays on the way.
+func (w *world) step(doubt int) {
+	w.t.Helper()
+	id := w.random.Intn(len(w.nodes))
+	switch {
+	case w.random.Intn(20) == 0:
+		op := []string{"pa1", "ga", "ca12", "da", "pa2"}[w.random.Intn(5)]
+		w.send(w.nodes[id].Take(fmt.Sprintf("q %d %d %s", 1+w.random.Intn(3), 1+w.random.Intn(6), op)))
+	case w.random.Intn(20) == 0:
+		w.send(w.nodes[id].Beat())
+	case w.random.Intn(doubt) == 0:
+		w.send(w.nodes[id].Suspect())
+	case len(w.way) > 0:
+		at := w.random.Intn(len(w.way))
+		o := w.way[at]
+		if w.random.Intn(5) > 0 {
+			w.way = append(w.way[:at], w.way[at+1:]...)
+		}
+		if w.random.Intn(8) > 0 {
+			w.send(w.nodes[o.To].Take(o.Text))
+		}
+	}
+	if len(w.way) > 80 {
+		w.way = w.way[30:]
+	}
+	w.isOneService()
+}
+
+// calm: nothing is lost any more, and nobody suspects.
+func (w *world) calm(rounds int) {
+	w.t.Helper()
+	w.way = nil
+	for round := 0; round < rounds; round++ {
+		for _, r := range w.nodes {
+			w.send(r.Beat())
+		}
+		for i := 0; i < 1000 && len(w.way) > 0; i++ {
+			o := w.way[0]
+			w.way = w.way[1:]
+			w.send(w.nodes[o.To].Take(o.Text))
+			w.isOneService()
+		}
+	}
+}
+
+// send: a request has one result, however often and by whomever it is told.
+func (w *world) send(out []api.Out) {
+	w.t.Helper()
+	for _, o := range out {
+		if o.To >= 0 {
+			w.way = append(w.way, o)
+			continue
+		}
+		at := strings.LastIndex(o.Text, " ")
+		request, result := o.Text[:at], o.Text[at:]
+		if known, ok := w.replies[request]; ok && known != result {
+			w.t.Fatalf("seed %d: %s: %s and %s", w.seed, request, known, result)
+		}
+		w.replies[request] = result
+	}
+}
+
+// isOneService: what one has decided at a place, all have that decide there; and it has come to what that makes.
+func (w *world) isOneService() {
+	w.t.Helper()
+	for id, r := range w.nodes {
+		_, _, _, decided := r.Where()
+		log := r.Log()
+		for i := 0; i < decided; i++ {
+			entry := fmt.Sprint(log[i])
+			if i == len(w.decided) {
+				w.decided = append(w.decided, entry)
+			}
+			if w.decided[i] != entry {
+				w.t.Fatalf("seed %d: replica %d has decided %s at place %d, not %s", w.seed, id, entry, i+1, w.decided[i])
+			}
+		}
+		if want := valueBehind(log[:decided]); r.Value('a') != want {
+			w.t.Fatalf("seed %d: replica %d, %d decided of %s: a is %q, not %q", w.seed, id, decided, logOf(r), r.Value('a'), want)
+		}
+	}
+}
+
+// areAlike: all of them know the same, and all is decided.
+func (w *world) areAlike() {
+	w.t.Helper()
+	first := all(w.nodes[0])
+	_, _, status, decided := w.nodes[0].Where()
+	if status != api.Normal || decided != len(w.nodes[0].Log()) || decided < len(w.decided) || decided == 0 {
+		w.t.Errorf("seed %d: replica 0: %s", w.seed, first)
+	}
+	for id, r := range w.nodes {
+		if all(r) != first {
+			w.t.Errorf("seed %d: replica %d: %s\nreplica 0: %s", w.seed, id, all(r), first)
+		}
+	}
+}
+
+// valueBehind is what the key a has when a log of pa1, ca12, da, pa2 and ga is carried out.
+func valueBehind(log []api.Entry) string {
+	value := ""
+	for _, e := range log {
+		switch {
+		case e.Op == "pa1":
+			value = "1"
+		case e.Op == "pa2" || e.Op == "ca12" && value == "1":
+			value = "2"
+		case e.Op == "da":
+			value = ""
+		}
+	}
+	return value
+}
+
+// Whatever is lost, comes twice or late, and whoever is suspected: the replicas are one service, and come to be alike once that ends.
+func TestTogether(t *testing.T) {
+	for seed := int64(0); seed < 60; seed++ {
+		n, group := 3, "201"
+		if seed%2 == 1 {
+			n, group = 5, "20143"
+		}
+		w := newWorld(t, seed, n, group)
+		doubt := []int{1 << 30, 400, 60}[seed%3]
+		for i := 0; i < 1500; i++ {
+			w.step(doubt)
+		}
+		w.calm(8)
+		w.areAlike()
+	}
+}
