@@ -83,7 +83,7 @@ func (r *Replica) takeInChange(m message.Message) {
 // count: to count a vote: with more than f the view begins. A COMMIT beyond the best log is cut by decide.
 func (r *Replica) count(m message.Message) {
 	r.votes = joined(r.votes, m)
-	if len(r.votes) <= r.f() {
+	if len(r.votes) <= faults(r.group) {
 		return
 	}
 	best := bestVote(r.votes)

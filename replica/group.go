@@ -8,12 +8,16 @@ import (
 // nobody is the primary where there is no group.
 const nobody = -1
 
-// primary is the primary of the view.
+// primary is the primary of its view.
 func (r *Replica) primary() int {
-	if len(r.group) == 0 {
+	return primaryOf(r.group, r.view)
+}
+
+func primaryOf(group []int, view int) int {
+	if len(group) == 0 || view < 0 {
 		return nobody
 	}
-	return r.group[r.view%len(r.group)]
+	return group[view%len(group)]
 }
 
 func (r *Replica) isPrimary() bool {
@@ -25,9 +29,9 @@ func (r *Replica) leads() bool {
 	return r.status == api.Normal && r.isPrimary()
 }
 
-// f is how many of the group may be gone without the others' coming to a halt.
-func (r *Replica) f() int {
-	return (len(r.group) - 1) / 2
+// faults is a group's f: how many of it may be gone without the others' coming to a halt.
+func faults(group []int) int {
+	return (len(group) - 1) / 2
 }
 
 func (r *Replica) isMember(replica int) bool {

@@ -65,7 +65,7 @@ func (r *Replica) takeAck(m message.Message) {
 
 // acked is the greatest place that f members besides itself have.
 func (r *Replica) acked() int {
-	f := r.f()
+	f := faults(r.group)
 	for place := len(r.log); place > 0; place-- {
 		if r.acksFor(place) >= f {
 			return place

@@ -23,6 +23,7 @@ type Replica struct {
 	service service.Service
 	acks    [api.MaxNodes]int
 	votes   []message.Message
+	answers []message.Message
 	out     []api.Out // what the call that is under way has sent so far
 }
 

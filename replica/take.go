@@ -16,6 +16,7 @@ func (r *Replica) Take(text string) []api.Out {
 	} else if r.isAlive(m) {
 		r.learnLives(m.Lives)
 		r.votes = ofThisLife(r.votes, r.lives)
+		r.answers = ofThisLife(r.answers, r.lives)
 		r.takeOfReplica(m)
 	}
 	return r.sent()
@@ -38,7 +39,10 @@ func (r *Replica) learnLives(lives []int) {
 
 func (r *Replica) takeOfReplica(m message.Message) {
 	if r.status == api.Recover {
-		return // P10 is still to come
+		if m.Kind == 'a' {
+			r.takeAnswer(m)
+		}
+		return
 	}
 	switch m.Kind {
 	case 's':

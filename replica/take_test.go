@@ -120,6 +120,15 @@ func TestP6AnswersR(t *testing.T) {
 		{"take r 0 1.0.0.999 0 0", ""},
 	})
 	play(t, made(t, 3, 4, "012"), []step{{"take r 1 0.1.0.0 3 0", ""}, {"lives", "[0 1 0 0]"}})
+	play(t, made(t, 1, 4, "012"), []step{
+		{"take p 0 0.0.0.0 0 0 1 1.1.r123 1", "0: k 1 0.0.0.0 0 0 1; " + others("s 1 0.0.0.0 1 0 123 012 1 1.1.r123", 2, 3) + "; " + others("t 1 0.0.0.0 1 0", 0, 2)},
+		{"take q 2 1 pa5", others("p 1 0.0.0.0 1 0 2 2.1.pa5 1", 2, 3)},
+		{"take r 0 4.0.0.0 0 0", "0: a 1 4.0.0.0 1 0 4 123 012 1 1.1.r123/2.1.pa5"},
+		{"take r 0 3.0.0.0 0 0", ""},
+		{"take r 0 4.0.0.0 0 0", "0: a 1 4.0.0.0 1 0 4 123 012 1 1.1.r123/2.1.pa5"},
+		{"take r 1 4.9.0.0 0 0", ""},
+		{"lives", "[4 0 0 0]"},
+	})
 }
 
 // P6: messages of other epochs and views, to one that is Normal.
@@ -220,8 +229,8 @@ func TestP1AnyTexts(t *testing.T) {
 		n := 3 + random.Intn(5)
 		id := random.Intn(n)
 		r, _ := replica.New(id, n, []string{"012", "210", "120"}[random.Intn(3)])
-		if random.Intn(10) == 0 {
-			r, _ = replica.Restart(id, n, 1+random.Intn(9))
+		if random.Intn(4) == 0 {
+			r, _ = replica.Restart(id, n, 1+random.Intn(2))
 		}
 		for i := 0; i < 120; i++ {
 			var out []api.Out

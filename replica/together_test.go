@@ -16,6 +16,7 @@ type world struct {
 	seed    int64
 	random  *rand.Rand
 	nodes   []*replica.Replica
+	lives   []int
 	way     []api.Out
 	decided []string          // by place, as far as any replica has decided
 	replies map[string]string // by request
@@ -23,7 +24,7 @@ type world struct {
 
 func newWorld(t *testing.T, seed int64, n int, group string) *world {
 	t.Helper()
-	w := &world{t: t, seed: seed, random: rand.New(rand.NewSource(seed)), replies: map[string]string{}}
+	w := &world{t: t, seed: seed, random: rand.New(rand.NewSource(seed)), lives: make([]int, n), replies: map[string]string{}}
 	for id := 0; id < n; id++ {
 		w.nodes = append(w.nodes, made(t, id, n, group))
 	}
@@ -58,11 +59,35 @@ func (w *world) step(doubt int) {
 	w.isOneService()
 }
 
-// calm: nothing is lost any more, and nobody suspects.
+// crash: one loses all, unless that would be more than a group can bear at a time.
+func (w *world) crash() {
+	w.t.Helper()
+	id := w.random.Intn(len(w.nodes))
+	if w.recovering() >= (len(w.nodes)-1)/2 {
+		return
+	}
+	w.lives[id]++
+	w.nodes[id] = restarted(w.t, id, len(w.nodes), w.lives[id])
+}
+
+func (w *world) recovering() int {
+	count := 0
+	for _, r := range w.nodes {
+		if _, _, status, _ := r.Where(); status == api.Recover {
+			count++
+		}
+	}
+	return count
+}
+
+// calm: nothing is lost any more, and nobody suspects but where one that recovers may have been the primary.
 func (w *world) calm(rounds int) {
 	w.t.Helper()
 	w.way = nil
 	for round := 0; round < rounds; round++ {
+		if w.recovering() > 0 && round%3 == 0 {
+			w.send(w.nodes[w.random.Intn(len(w.nodes))].Suspect())
+		}
 		for _, r := range w.nodes {
 			w.send(r.Beat())
 		}
@@ -118,7 +143,7 @@ func (w *world) areAlike() {
 	w.t.Helper()
 	first := all(w.nodes[0])
 	_, _, status, decided := w.nodes[0].Where()
-	if status != api.Normal || decided != len(w.nodes[0].Log()) || decided < len(w.decided) || decided == 0 {
+	if status != api.Normal || decided != len(w.nodes[0].Log()) || decided < len(w.decided) {
 		w.t.Errorf("seed %d: replica 0: %s", w.seed, first)
 	}
 	for id, r := range w.nodes {
@@ -144,6 +169,34 @@ func valueBehind(log []api.Entry) string {
 	return value
 }
 
+// Whoever crashes, as long as no more than f are recovering at a time: what is decided stays so, and all come to be alike.
+func TestTogetherWithCrashes(t *testing.T) {
+	crashes, decided := 0, 0
+	for seed := int64(0); seed < 120; seed++ {
+		n, group := 3, "201"
+		if seed%2 == 1 {
+			n, group = 5, "20143"
+		}
+		w := newWorld(t, seed, n, group)
+		doubt := []int{100, 40, 400}[seed%3]
+		for i := 0; i < 1500; i++ {
+			w.step(doubt)
+			if w.random.Intn(60) == 0 {
+				w.crash()
+			}
+		}
+		w.calm(40)
+		w.areAlike()
+		for _, life := range w.lives {
+			crashes += life
+		}
+		decided += len(w.decided)
+	}
+	if crashes < 300 || decided < 300 {
+		t.Errorf("%d crashes, %d entries decided: too few to tell anything", crashes, decided)
+	}
+}
+
 // Whatever is lost, comes twice or late, and whoever is suspected: the replicas are one service, and come to be alike once that ends.
 func TestTogether(t *testing.T) {
 	for seed := int64(0); seed < 60; seed++ {
@@ -158,5 +211,8 @@ func TestTogether(t *testing.T) {
 		}
 		w.calm(8)
 		w.areAlike()
+		if len(w.decided) == 0 {
+			t.Errorf("seed %d: nothing was decided", seed)
+		}
 	}
 }
