@@ -1,9 +1,6 @@
 package replica
 
-import (
-	"quorum/api"
-	"quorum/message"
-)
+import "quorum/message"
 
 // decide: to decide up to a place, but no more than the log. At the epoch's end it stops: what follows is the new group's to decide.
 func (r *Replica) decide(place int) {
@@ -19,25 +16,5 @@ func (r *Replica) decide(place int) {
 			r.turn(group)
 			return
 		}
-	}
-}
-
-// turn: THE EPOCH TURNS to a new group.
-func (r *Replica) turn(group []int) {
-	r.old = r.group
-	r.group = group
-	r.epoch++
-	r.view = 0
-	r.normal = 0
-	r.acks = [api.MaxNodes]int{}
-	r.votes = nil
-	isMember := r.isMember(r.id)
-	if !isMember {
-		r.status = api.Leave
-	}
-	r.tellOthers()
-	if isMember {
-		t := r.head('t')
-		r.sendOthers(r.old, t)
 	}
 }

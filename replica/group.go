@@ -29,6 +29,11 @@ func (r *Replica) leads() bool {
 	return r.status == api.Normal && r.isPrimary()
 }
 
+// carries tells whether it is one of those that carry the epoch, be it while views change.
+func (r *Replica) carries() bool {
+	return r.status == api.Normal || r.status == api.Change
+}
+
 // faults is a group's f: how many of it may be gone without the others' coming to a halt.
 func faults(group []int) int {
 	return (len(group) - 1) / 2

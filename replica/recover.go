@@ -19,11 +19,8 @@ func (r *Replica) takeAnswer(m message.Message) {
 
 // resume: it goes on from what an answer says.
 func (r *Replica) resume(a message.Message) {
-	r.epoch = a.Epoch
-	r.group = a.Group
-	r.old = a.Old
+	r.enter(a)
 	r.answers = nil
-	r.begin(a.View)
 	if !r.isMember(r.id) {
 		r.status = api.Away
 		return

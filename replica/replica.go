@@ -24,6 +24,7 @@ type Replica struct {
 	acks    [api.MaxNodes]int
 	votes   []message.Message
 	answers []message.Message
+	started [api.MaxNodes]bool
 	out     []api.Out // what the call that is under way has sent so far
 }
 

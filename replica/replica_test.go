@@ -208,7 +208,7 @@ func TestP5Looks(t *testing.T) {
 	})
 }
 
-// Examples 1 to 3 of the document, and what of the others needs no views, recovery or epochs of others.
+// The examples of the document, but for 4 and 5, which are in TestP9Examples, and 6, which is in TestP10Example.
 func TestExamples(t *testing.T) {
 	play(t, made(t, 0, 3, "012"), []step{
 		{"where", "0 0 1 0"},
@@ -244,12 +244,18 @@ func TestExamples(t *testing.T) {
 		{"take m 1 1 0 123", "1: p 0 0.0.0.0 0 0 1 1.1.r123 0; 2: p 0 0.0.0.0 0 0 1 1.1.r123 0"},
 		{"take k 1 0.0.0.0 0 0 1", "-1: y 1 1 ok; 1: s 0 0.0.0.0 1 0 123 012 1 1.1.r123; 2: s 0 0.0.0.0 1 0 123 012 1 1.1.r123; 3: s 0 0.0.0.0 1 0 123 012 1 1.1.r123"},
 		{"where", "1 0 5 1"},
+		{"take t 1 0.0.0.0 1 0", ""},
+		{"take t 3 0.0.0.0 1 0", ""},
+		{"where", "1 0 4 1"},
 	})
 	play(t, made(t, 1, 4, "012"), []step{
 		{"take p 0 0.0.0.0 0 0 1 1.1.r123 0", "0: k 1 0.0.0.0 0 0 1"},
 		{"take c 0 0.0.0.0 0 0 1", "2: s 1 0.0.0.0 1 0 123 012 1 1.1.r123; 3: s 1 0.0.0.0 1 0 123 012 1 1.1.r123; 0: t 1 0.0.0.0 1 0; 2: t 1 0.0.0.0 1 0"},
 		{"where", "1 0 1 1"},
 		{"groups", "[1 2 3] [0 1 2]"},
+	})
+	play(t, made(t, 3, 4, "012"), []step{
+		{"take s 1 0.0.0.0 1 0 123 012 1 1.1.r123", "0: t 3 0.0.0.0 1 0; 1: t 3 0.0.0.0 1 0; 2: t 3 0.0.0.0 1 0; 1: k 3 0.0.0.0 1 0 1"},
 	})
 	play(t, made(t, 0, 4, "012"), []step{
 		{"take m 1 1 1 123", ""},

@@ -80,6 +80,12 @@ func (r *Replica) state() message.Message {
 	return m
 }
 
+// tellStart tells the old group that it carries the epoch.
+func (r *Replica) tellStart() {
+	t := r.head('t')
+	r.sendOthers(r.old, t)
+}
+
 // tellBeginning tells one the BEGINNING of the epoch.
 func (r *Replica) tellBeginning(to int) {
 	m := r.state()

@@ -8,12 +8,20 @@ import (
 
 // takeState: s (P11).
 func (r *Replica) takeState(m message.Message) {
-	if m.Epoch != r.epoch {
-		return // s of another epoch is still to come
-	}
-	if r.status != api.Normal && r.status != api.Change {
+	switch {
+	case m.Epoch > r.epoch:
+		r.takeLaterEpoch(m)
+	case !r.carries():
 		return
+	case m.Epoch < r.epoch:
+		r.takeEarlier(m)
+	default:
+		r.takeStateOfEpoch(m)
 	}
+}
+
+// takeStateOfEpoch: s of this epoch, to one that is of its group.
+func (r *Replica) takeStateOfEpoch(m message.Message) {
 	switch {
 	case m.View > r.view || m.View == r.view && r.status == api.Change:
 		r.begin(m.View)

@@ -96,6 +96,8 @@ func TestP11StateTurnsTheEpoch(t *testing.T) {
 		{"where", "1 0 1 2"},
 		{"take s 3 0.0.0.0 1 2 123 012 2 1.1.pa5/1.2.r123", "3: k 2 0.0.0.0 1 2 2"},
 		{"where", "1 2 1 2"},
+		{"take s 1 0.0.0.0 1 2 123 012 2 1.1.pa5/1.2.r123/1.3.pa6", "3: k 2 0.0.0.0 1 2 3"},
+		{"take s 1 0.0.0.0 1 1 123 012 2 1.1.pa5/1.2.r123", "1: s 2 0.0.0.0 1 2 123 012 2 1.1.pa5/1.2.r123/1.3.pa6"},
 		// To take over carries out what is decided, but turns nothing.
 		{"take s 3 0.0.0.0 1 5 123 012 2 1.1.r123/1.2.r123", "3: k 2 0.0.0.0 1 5 2"},
 		{"where", "1 5 1 2"},

@@ -48,10 +48,13 @@ func (r *Replica) takeOfReplica(m message.Message) {
 	case 's':
 		r.takeState(m)
 		return
-	case 't', 'a':
-		return // P11's t is still to come
 	case 'r':
 		r.answer(m)
+		return
+	case 't':
+		r.takeStart(m)
+		return
+	case 'a':
 		return
 	}
 	if r.status == api.Away || r.status == api.Leave {

@@ -7,6 +7,7 @@ import (
 	"testing"
 
 	"quorum/api"
+	"quorum/message"
 	"quorum/replica"
 )
 
@@ -258,6 +259,10 @@ func isSane(t *testing.T, r *replica.Replica, out []api.Out, n int) {
 		if o.To >= n || o.To < -api.MaxClients || o.Text == "" || len(o.Text) > api.MaxText {
 			t.Fatalf("sent: %v", o)
 		}
+		// (To r of a life that never was the answer's LIFE is that, which is none.)
+		if _, ok := message.Read(o.Text, n); o.To >= 0 && !ok && o.Text[0] != 'a' {
+			t.Fatalf("sent: %v", o)
+		}
 	}
 }
 
@@ -271,12 +276,13 @@ func anyText(random *rand.Rand, n int) string {
 		return number(10) + "." + number(12) + "." + []string{"ga", "pa5", "da", "ca57", "r012", "r120", "r21"}[random.Intn(7)]
 	}
 	log := []string{"-", entry(), entry() + "/" + entry()}[random.Intn(3)]
+	group := func() string { return []string{"012", "120", "01" + number(n+1), "12" + number(n+1)}[random.Intn(4)] }
 	head := " " + number(n+1) + " " + lives + " " + number(3) + " " + number(3)
 	text := []string{
 		"q " + number(11) + " " + number(12) + " pa5", "m " + number(11) + " " + number(12) + " " + number(3) + " 01" + number(n+1),
 		"p" + head + " " + number(12) + " " + entry() + " " + number(12), "k" + head + " " + number(12), "c" + head + " " + number(4),
 		"h" + head, "g" + head, "r" + head, "t" + head, "v" + head + " 0 " + number(3) + " " + log,
-		"s" + head + " 012 - " + number(3) + " " + log, "a" + head + " 1 012 210 " + number(3) + " " + log,
+		"s" + head + " " + group() + " " + []string{"-", group()}[random.Intn(2)] + " " + number(3) + " " + log, "a" + head + " 1 " + group() + " 210 " + number(3) + " " + log,
 	}[random.Intn(12)]
 	if random.Intn(4) == 0 {
 		at := random.Intn(len(text))

@@ -20,7 +20,7 @@ func (r *Replica) Beat() []api.Out {
 
 // Suspect is a tick: the primary is taken to be gone (P12).
 func (r *Replica) Suspect() []api.Out {
-	if (r.status == api.Normal || r.status == api.Change) && r.view < api.MaxNum {
+	if r.carries() && r.view < api.MaxNum {
 		r.want(r.view + 1)
 	}
 	return r.sent()

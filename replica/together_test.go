@@ -3,6 +3,7 @@ package replica_test
 import (
 	"fmt"
 	"math/rand"
+	"strconv"
 	"strings"
 	"testing"
 
@@ -59,11 +60,24 @@ func (w *world) step(doubt int) {
 	w.isOneService()
 }
 
-// crash: one loses all, unless that would be more than a group can bear at a time.
-func (w *world) crash() {
+// regroup: a client asks one for another group, as of an epoch that may be over or still to come there.
+func (w *world) regroup() {
 	w.t.Helper()
 	id := w.random.Intn(len(w.nodes))
-	if w.recovering() >= (len(w.nodes)-1)/2 {
+	epoch, _, _, _ := w.nodes[id].Where()
+	epoch += []int{0, 0, 0, 0, 1, -1}[w.random.Intn(6)]
+	digits := ""
+	for _, member := range w.random.Perm(len(w.nodes))[:[]int{3, 5}[w.random.Intn(2)]] {
+		digits += strconv.Itoa(member)
+	}
+	w.send(w.nodes[id].Take(fmt.Sprintf("m %d %d %d %s", 4+w.random.Intn(2), 1+w.random.Intn(6), epoch, digits)))
+}
+
+// crash: one loses all, unless that would be more at a time than can be borne.
+func (w *world) crash(atATime int) {
+	w.t.Helper()
+	id := w.random.Intn(len(w.nodes))
+	if w.recovering() >= atATime {
 		return
 	}
 	w.lives[id]++
@@ -88,15 +102,21 @@ func (w *world) calm(rounds int) {
 		if w.recovering() > 0 && round%3 == 0 {
 			w.send(w.nodes[w.random.Intn(len(w.nodes))].Suspect())
 		}
-		for _, r := range w.nodes {
-			w.send(r.Beat())
-		}
-		for i := 0; i < 1000 && len(w.way) > 0; i++ {
-			o := w.way[0]
-			w.way = w.way[1:]
-			w.send(w.nodes[o.To].Take(o.Text))
-			w.isOneService()
-		}
+		w.round()
+	}
+}
+
+// round: a tick comes to all, and all that is sent then comes to whom it is for.
+func (w *world) round() {
+	w.t.Helper()
+	for _, r := range w.nodes {
+		w.send(r.Beat())
+	}
+	for i := 0; i < 3000 && len(w.way) > 0; i++ {
+		o := w.way[0]
+		w.way = w.way[1:]
+		w.send(w.nodes[o.To].Take(o.Text))
+		w.isOneService()
 	}
 }
 
@@ -110,6 +130,9 @@ func (w *world) send(out []api.Out) {
 		}
 		at := strings.LastIndex(o.Text, " ")
 		request, result := o.Text[:at], o.Text[at:]
+		if result == " bad" {
+			continue // that is of no entry
+		}
 		if known, ok := w.replies[request]; ok && known != result {
 			w.t.Fatalf("seed %d: %s: %s and %s", w.seed, request, known, result)
 		}
@@ -169,6 +192,51 @@ func valueBehind(log []api.Entry) string {
 	return value
 }
 
+// last is the last epoch that any replica knows of, and its group.
+func (w *world) last() (int, []int) {
+	last, group := 0, []int(nil)
+	for _, r := range w.nodes {
+		if epoch, _, _, _ := r.Where(); r.Group() != nil && epoch >= last {
+			last, group = epoch, r.Group()
+		}
+	}
+	return last, group
+}
+
+// isSettled: all members of the last epoch's group carry it in one view, with one log, and all of that is decided.
+func (w *world) isSettled() bool {
+	last, group := w.last()
+	_, view, _, _ := w.nodes[group[0]].Where()
+	log := logOf(w.nodes[group[0]])
+	for _, id := range group {
+		r := w.nodes[id]
+		where := [4]int{last, view, api.Normal, len(r.Log())}
+		if epoch, view, status, decided := r.Where(); where != [4]int{epoch, view, status, decided} || logOf(r) != log || decided < len(w.decided) {
+			return false
+		}
+	}
+	return true
+}
+
+// settle: nothing is lost any more; now and then a member of the last group suspects, for its primary may recover, or may not know yet that it is one.
+func (w *world) settle() {
+	w.t.Helper()
+	w.way = nil
+	for round := 0; round < 60 && !w.isSettled(); round++ {
+		if _, group := w.last(); round%3 == 2 {
+			w.send(w.nodes[group[w.random.Intn(len(group))]].Suspect())
+		}
+		w.round()
+	}
+	if w.isSettled() {
+		return
+	}
+	w.t.Errorf("seed %d: the last group does not come to carry its epoch", w.seed)
+	for id, r := range w.nodes {
+		w.t.Logf("replica %d: %s", id, all(r))
+	}
+}
+
 // Whoever crashes, as long as no more than f are recovering at a time: what is decided stays so, and all come to be alike.
 func TestTogetherWithCrashes(t *testing.T) {
 	crashes, decided := 0, 0
@@ -182,7 +250,7 @@ func TestTogetherWithCrashes(t *testing.T) {
 		for i := 0; i < 1500; i++ {
 			w.step(doubt)
 			if w.random.Intn(60) == 0 {
-				w.crash()
+				w.crash((n - 1) / 2)
 			}
 		}
 		w.calm(40)
@@ -214,5 +282,33 @@ func TestTogether(t *testing.T) {
 		if len(w.decided) == 0 {
 			t.Errorf("seed %d: nothing was decided", seed)
 		}
+	}
+}
+
+// Groups follow one another, crashes or none (one at a time, for a group may be of three): what is decided stays so, and the last group comes to carry the service.
+func TestTogetherWithEpochs(t *testing.T) {
+	epochs, crashes := 0, 0
+	for seed := int64(0); seed < 90; seed++ {
+		n := 5 + int(seed%3)
+		w := newWorld(t, seed, n, []string{"201", "20143"}[seed%2])
+		doubt := []int{100, 40, 400}[w.random.Intn(3)]
+		for i := 0; i < 2000; i++ {
+			w.step(doubt)
+			if w.random.Intn(40) == 0 {
+				w.regroup()
+			}
+			if seed%4 < 2 && w.random.Intn(60) == 0 {
+				w.crash(1)
+			}
+		}
+		w.settle()
+		last, _ := w.last()
+		epochs += last
+		for _, life := range w.lives {
+			crashes += life
+		}
+	}
+	if epochs < 150 || crashes < 150 {
+		t.Errorf("%d epochs, %d crashes: too few to tell anything", epochs, crashes)
 	}
 }
